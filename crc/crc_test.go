@@ -468,7 +468,7 @@ func afresh() {
 	fillOnce, eightSteps = sync.Once{}, [256]uint32{}
 }
 
-// The chapter's Ways: whichever call comes first reckons what is reckoned once.
+// The chapter's Ways: whichever call comes first, its answer is right.
 func TestWhicheverCallIsFirst(t *testing.T) {
 	afresh()
 	if x := Sum("123456789"); x != 0xFC891918 {
@@ -482,11 +482,67 @@ func TestWhicheverCallIsFirst(t *testing.T) {
 	if x := Noughts(0, 1); x != 0xB1F7404B {
 		t.Errorf("Noughts first: %08X", x)
 	}
-	before := eightSteps
+}
+
+// The chapter's Ways: the table tells of all 256 bytes what the function works out, and what the chapter's Words say.
+func TestTableAgainstFunction(t *testing.T) {
+	afresh()
+	Noughts(0, 1)
+	for b := range 256 {
+		told, worked := eightSteps[b], afterEight(byte(b))
+		if told != worked {
+			t.Errorf("of %02X the table tells %08X, the function %08X", b, told, worked)
+		}
+		// The same by the Words: from a register of which no other bit is 1, bit by bit.
+		slowly := uint32(b) << 24
+		for range 8 {
+			highest := slowly >> 31
+			slowly = slowly<<1 ^ highest*0x04C11DB7
+		}
+		if told != slowly {
+			t.Errorf("of %02X the table tells %08X, the Words %08X", b, told, slowly)
+		}
+	}
+}
+
+// The chapter's Ways: the table is reckoned at the first call that reads it, and not again.
+func TestTableIsReckonedOnce(t *testing.T) {
+	afresh()
+	Noughts(0, 1)
+	if eightSteps == [256]uint32{} {
+		t.Fatal("it isn't reckoned at the first call")
+	}
+	eightSteps = [256]uint32{}
+	defer afresh()
 	Sum(allBytes())
+	Right(allBytes())
 	Noughts(5, 4096)
-	if eightSteps != before {
-		t.Error("it is reckoned twice, and comes out otherwise")
+	if eightSteps != [256]uint32{} {
+		t.Error("it is reckoned again")
+	}
+}
+
+// P3.1, P3.2: answers are worked out by the function, whatever the table holds.
+func TestAnswersDoNotHangOnTheTable(t *testing.T) {
+	defer afresh()
+	for _, held := range []uint32{0, 1, 0x04C11DB7, math.MaxUint32} {
+		afresh()
+		Noughts(0, 1)
+		for b := range eightSteps {
+			eightSteps[b] ^= held + uint32(b)
+		}
+		for _, text := range texts() {
+			want := slow(text)
+			if got := Sum(text); got != want {
+				t.Errorf("Sum of %.20q is %08X, want %08X", text, got, want)
+			}
+			if !Right(text + Put(want)) {
+				t.Errorf("%.20q and its sum isn't right", text)
+			}
+			if got, more := Noughts(want, 9), slow(text+noughts(9)); got != more {
+				t.Errorf("Noughts of %.20q and 9 is %08X, want %08X", text, got, more)
+			}
+		}
 	}
 }
 
@@ -501,6 +557,9 @@ func TestManyFirstCalls(t *testing.T) {
 		all.Go(func() {
 			if x := Sum(text[:i], text[i:]); x != want {
 				told[i] = fmt.Sprintf("%08X, want %08X", x, want)
+			}
+			if x := Noughts(want, i); x != slow(text+noughts(i)) {
+				told[i] = fmt.Sprintf("%08X with %d bytes 0", x, i)
 			}
 		})
 	}
